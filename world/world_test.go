@@ -122,6 +122,33 @@ func TestP30_1_ErrorsOfFormat(t *testing.T) {
 	}
 }
 
+// Of whatever config there is a report, or the error that it has.
+func TestP30_1_AnyConfig(t *testing.T) {
+	seen := map[api.Errno]int{}
+	sizes := []int{math.MinInt, -1, 0, 1, 2, 3, 60, 2730, 4095, 4096, 8190, 8192, 8193, math.MaxInt}
+	for _, slot := range sizes {
+		for _, log := range sizes {
+			for _, places := range []int{0, 1, 16, 17} {
+				c := store.Config{Ledger: ledger.Config{Validity: 1 << 30, Places: places, Day: 4}, Slot: slot, Log: log}
+				want := api.OK
+				if store.Sectors(c) == 0 {
+					want = api.ErrArg
+				} else if len(fresh(t, c).pack()) > 64*(slot-1) {
+					want = api.ErrDisk
+				}
+				r, err := world.Run(c, []event{tick, cut(1), tick, crash})
+				if err != want || err != api.OK && !isSame(r, world.Report{}) || err == api.OK && len(r.Answers) != 4 {
+					t.Errorf("%+v: %d, not %d", c, err, want)
+				}
+				seen[err]++
+			}
+		}
+	}
+	if len(seen) != 3 {
+		t.Errorf("%v", seen)
+	}
+}
+
 // A store whose slots are small, and whose log is full, refuses what it has no room for.
 func TestP30_1_AFullDisk(t *testing.T) {
 	c := store.Config{Ledger: wide.Ledger, Slot: 3, Log: 4}
